@@ -1,0 +1,1 @@
+"""Ringpop: piles of arrows, the rings that are popped, and the trees that are left."""
