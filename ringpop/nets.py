@@ -24,6 +24,11 @@ def ends_of(row):
     return [arrow[0] for arrow in row]
 
 
+def is_end(row, thing):
+    # Asked ahead of `in`, which would also take what is merely equal to an end.
+    return is_number(thing) and thing in ends_of(row)
+
+
 # The words of a refusal never show the thing itself: a thing of any sort may
 # fail to be shown, as a number of too many figures does.
 def row_of(thing, many):

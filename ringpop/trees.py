@@ -1,14 +1,13 @@
 """Trees of a net: one arrow for each place, such that every way comes to a root."""
 
 from ringpop.errors import NoTree
-from ringpop.nets import ends_of, is_number
+from ringpop.nets import is_end
 
 
 def fits_row(row, thing):
     if row == []:
         return thing is None
-    # Asked ahead of `in`, which would also take what is merely equal to an end.
-    return is_number(thing) and thing in ends_of(row)
+    return is_end(row, thing)
 
 
 def way_along(ends, place):
