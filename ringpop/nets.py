@@ -29,6 +29,14 @@ def is_end(row, thing):
     return is_number(thing) and thing in ends_of(row)
 
 
+def weight_to(row, to):
+    return dict(row).get(to, 0)
+
+
+def weight_to_others(row, place):
+    return sum([weight for to, weight in row if to != place])
+
+
 # The words of a refusal never show the thing itself: a thing of any sort may
 # fail to be shown, as a number of too many figures does.
 def row_of(thing, many):

@@ -48,3 +48,8 @@ def oddities():
         -1, -10 ** 6000, 10 ** 6000,
         list_in_itself(), (list_in_itself(),), deep_list(),
     ]
+
+
+# For where every place would do, and so each number from 0 on that is small enough.
+def no_places():
+    return [None, [], [0], [1], (), (0,), (1,), (0, 1), 0.0, 2.0, "1", 10 ** 29, -10 ** 29] + oddities()

@@ -1,6 +1,8 @@
-"""Piles to try things on: all small ones, and great ones that are the same at each run."""
+"""Piles and nets to try things on: all small ones, and great ones that are the same at each run."""
 
 import itertools
+
+WEIGHTS = (1, 2, 3, 5, 7, 11, 13, 17, 19)
 
 
 def small_piles(many, height):
@@ -22,6 +24,13 @@ class Dice:
     def order(self, size):
         return [self.throw(10 ** 9) for turn in range(size)]
 
+    def weight(self, figures):
+        """A number of just so many figures."""
+        weight = 1 + self.throw(9)
+        for turn in range(figures - 1):
+            weight = 10 * weight + self.throw(10)
+        return weight
+
 
 def thrown_piles(dice, many, most):
     return [[dice.throw(many) for arrow in range(dice.throw(most + 1))] for place in range(many)]
@@ -34,3 +43,42 @@ def great_piles():
     # With a root, so that full piles may leave trees.
     piles += [[[]] + [[dice.throw(many) for arrow in range(40)] for place in range(1, many)] for many in range(2, 9)]
     return piles
+
+
+def small_nets():
+    """All nets of one to three places, by which arrows there are; no two arrows weigh the same."""
+    nets = []
+    for many in (1, 2, 3):
+        sets = [ends for size in range(many + 1) for ends in itertools.combinations(range(many), size)]
+        for rows in itertools.product(sets, repeat=many):
+            nets.append([[(to, WEIGHTS[3 * place + to]) for to in ends] for place, ends in enumerate(rows)])
+    return nets
+
+
+def full_net(many, roots, weight=1):
+    return [[] if place in roots else [(to, weight) for to in range(many)] for place in range(many)]
+
+
+def thrown_row(dice, many, figures):
+    ends = [to for to in range(many) if dice.throw(3)] or [dice.throw(many)]
+    return [(to, dice.weight(figures)) for to in ends]
+
+
+def thrown_net(dice, many, roots, figures):
+    return [[] if place in roots else thrown_row(dice, many, figures) for place in range(many)]
+
+
+def great_nets(least, most):
+    """Nets of so many places, without a root, with one and with two, light and heavy."""
+    dice = Dice(7)
+    nets = []
+    for many in range(least, most + 1):
+        for figures in (1, 9, 30):
+            for roots in (0, 1, 2):
+                nets.append(thrown_net(dice, many, [dice.throw(many) for root in range(roots)], figures))
+    return nets
+
+
+def rootless_nets():
+    dice = Dice(9)
+    return [thrown_net(dice, many, [], figures) for many in range(1, 9) for figures in (1, 9, 30) for turn in range(3)]

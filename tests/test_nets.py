@@ -1,10 +1,11 @@
 import copy
 import unittest
 
-from ringpop.errors import NoNet, RingError
+from ringpop.errors import NoNet
 from ringpop.nets import net_of, roots_of
 
 from oddities import oddities
+from refusing import check_refused
 
 FULL = [[(to, 10 * place + to + 1) for to in range(8)] for place in range(8)]
 
@@ -29,10 +30,7 @@ def is_weight(thing):
 
 class TestNetOf(unittest.TestCase):
     def refused(self, things):
-        for kind in (NoNet, RingError, ValueError):
-            with self.assertRaises(kind) as caught:
-                net_of(things)
-            self.assertIsInstance(caught.exception, NoNet)
+        check_refused(self, NoNet, net_of, things)
 
     def test_nets_are_told_as_they_are(self):
         for things in NETS:

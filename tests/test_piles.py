@@ -3,10 +3,11 @@ import inspect
 import itertools
 import unittest
 
-from ringpop.errors import NoPiles, NoRing, RingError
+from ringpop.errors import NoPiles, NoRing
 from ringpop.piles import piles_of, pop_ring, rings_of, tops_of
 
 from oddities import EqualToAll, oddities
+from refusing import check_refused
 from samples import great_piles, small_piles
 from sharing import check_sharing
 
@@ -39,10 +40,7 @@ class TestInterface(unittest.TestCase):
 
 class TestPilesOf(unittest.TestCase):
     def refused(self, net, things):
-        for kind in (NoPiles, RingError, ValueError):
-            with self.assertRaises(kind) as caught:
-                piles_of(net, things)
-            self.assertIsInstance(caught.exception, NoPiles)
+        check_refused(self, NoPiles, piles_of, net, things)
 
     def test_piles_that_fit_are_told_as_they_are(self):
         for net, things in FITTING:
@@ -222,12 +220,7 @@ class TestRingsOf(unittest.TestCase):
 
 class TestPopRing(unittest.TestCase):
     def refused(self, piles, ring):
-        before = copy.deepcopy(piles)
-        for kind in (NoRing, RingError, ValueError):
-            with self.assertRaises(kind) as caught:
-                pop_ring(piles, ring)
-            self.assertIsInstance(caught.exception, NoRing)
-        self.assertEqual(piles, before)
+        check_refused(self, NoRing, pop_ring, piles, ring)
 
     def test_rings_are_popped(self):
         piles = [[1, 0, 2], [0, 2], [2, 1, 2]]

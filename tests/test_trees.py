@@ -2,10 +2,13 @@ import copy
 import itertools
 import unittest
 
-from ringpop.errors import NoTree, RingError
+from ringpop.errors import NoTree
 from ringpop.trees import is_tree, road_of, weight_of
 
+from listing import settles
 from oddities import oddities
+from refusing import check_refused
+from samples import full_net
 
 NET = [[], [(0, 1), (2, 3)], [(1, 1)]]
 TWO_ROOTS = [[], [(0, 2), (1, 9), (2, 3)], [(1, 5), (3, 7)], []]
@@ -13,25 +16,9 @@ NO_ROOT = [[(1, 1)], [(0, 1), (1, 1)]]
 CHAIN = [[]] + [[(place - 1, place + 1)] for place in range(1, 8)]
 
 
-def full_net(many, roots):
-    return [[] if place in roots else [(to, place + to + 1) for to in range(many)] for place in range(many)]
-
-
 def lists_for(net):
     ends = [[None] + list(range(-1, len(net) + 1)) for row in net]
     return [list(things) for things in itertools.product(*ends)]
-
-
-# Found another way than by following roads: strip the places that are
-# settled, from the roots outward, till nothing more is settled.
-def settles(net, things):
-    for row, thing in zip(net, things):
-        if thing not in ([to for to, weight in row] or [None]):
-            return False
-    settled = [place for place, row in enumerate(net) if not row]
-    for turn in net:
-        settled += [place for place, to in enumerate(things) if to in settled and place not in settled]
-    return len(settled) == len(net)
 
 
 class TestIsTree(unittest.TestCase):
@@ -173,14 +160,9 @@ class TestWeightOf(unittest.TestCase):
 
 class TestNoTree(unittest.TestCase):
     def refused(self, net, things):
-        for kind in (NoTree, RingError, ValueError):
-            with self.assertRaises(kind) as caught:
-                weight_of(net, things)
-            self.assertIsInstance(caught.exception, NoTree)
-            for place in range(len(net)):
-                with self.assertRaises(kind) as caught:
-                    road_of(net, things, place)
-                self.assertIsInstance(caught.exception, NoTree)
+        check_refused(self, NoTree, weight_of, net, things)
+        for place in range(len(net)):
+            check_refused(self, NoTree, road_of, net, things, place)
 
     def test_lists_that_are_no_tree(self):
         wrong = (
