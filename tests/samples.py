@@ -45,6 +45,19 @@ def great_piles():
     return piles
 
 
+def piles_fitting(net, sizes):
+    """All piles that fit the net, each place with arrows having as many as one of the sizes."""
+    each = []
+    for row in net:
+        ends = [to for to, weight in row]
+        each.append([pile for size in sizes for pile in itertools.product(ends, repeat=size)] if row else [()])
+    return [[list(pile) for pile in piles] for piles in itertools.product(*each)]
+
+
+def fitting_piles(dice, net, most):
+    return [[row[dice.throw(len(row))][0] for arrow in range(1 + dice.throw(most))] if row else [] for row in net]
+
+
 def small_nets():
     """All nets of one to three places, by which arrows there are; no two arrows weigh the same."""
     nets = []

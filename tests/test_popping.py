@@ -130,7 +130,8 @@ class TestPutBack(unittest.TestCase):
         self.assertEqual(put_back([[], [], []], [[0, 2, 1]]), [[2], [0], [1]])
         self.assertEqual(put_back([[], [], []], [[0, 1, 2]]), [[1], [2], [0]])
         self.assertEqual(put_back([[], []], [[1]]), [[], [1]])
-        self.assertEqual(put_back([[] for place in range(8)], [[0, 7, 6, 5, 4, 3, 2, 1]]), [[7]] + [[n] for n in range(7)])
+        falling = [[7]] + [[place] for place in range(7)]
+        self.assertEqual(put_back([[] for place in range(8)], [[0, 7, 6, 5, 4, 3, 2, 1]]), falling)
 
     def test_no_rings(self):
         for piles in ([[]], PILES, [[0] * 40], [[], [0]]):
